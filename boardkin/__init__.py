@@ -1,0 +1,1 @@
+"""Boards of coloured cells, alike by turning, mirroring and sliding."""
