@@ -3,34 +3,9 @@
 import unittest
 
 from boardkin.deeds import done
-from helper import SIZES, all_done, board, every_deed, plain_board, unlike_boards, with_cell
+from helper import SIZES, all_done, all_led, board, every_deed, plain_board, unlike_boards, with_cell
 
 NINE = "123 456 789"
-
-# Where each turning leads the cell (x, y) of a board of so many places and rows.
-LED = {
-    0: lambda x, y, width, height: (x, y),
-    1: lambda x, y, width, height: (height - 1 - y, x),
-    2: lambda x, y, width, height: (width - 1 - x, height - 1 - y),
-    3: lambda x, y, width, height: (y, width - 1 - x),
-    4: lambda x, y, width, height: (width - 1 - x, y),
-    5: lambda x, y, width, height: (height - 1 - y, width - 1 - x),
-    6: lambda x, y, width, height: (x, height - 1 - y),
-    7: lambda x, y, width, height: (y, x),
-}
-
-
-def led(boards, deed, width, height):
-    """The boards that come of the deed, cell by cell."""
-    told = []
-    for each in boards:
-        rows = [[None] * width for y in range(height)]
-        for y in range(height):
-            for x in range(width):
-                to_x, to_y = LED[deed[0]](x, y, width, height)
-                rows[(to_y + deed[2]) % height][(to_x + deed[1]) % width] = each[y][x]
-        told.append(tuple(tuple(row) for row in rows))
-    return tuple(told)
 
 
 class Done(unittest.TestCase):
@@ -111,7 +86,7 @@ class Done(unittest.TestCase):
         for width, height in SIZES:
             boards = unlike_boards(width, height)
             for deed in every_deed(width, height):
-                self.assertEqual(all_done(boards, deed), led(boards, deed, width, height), (width, height, deed))
+                self.assertEqual(all_done(boards, deed), all_led(boards, deed), (width, height, deed))
 
     def test_colours_that_stand_twice_go_along(self):
         self.holds("0090 0000", (0, 3, 1), "0000 0900")

@@ -5,21 +5,7 @@ import unittest
 
 from boardkin.deeds import deeds, turnings
 from boardkin.errors import NoKinship, NotSquare
-from helper import KINSHIPS, SIZES
-
-NO_KINSHIPS = [
-    "hh", "qq", "mm", "ss", "hqq", "hqmss", "hhqms", "hqmsh", "hmm",
-    "qh", "mh", "sh", "mq", "sq", "sm", "smqh", "hmq", "hsm", "qmh", "hqsm",
-    "x", "a", "r", "hx", "xh", "hxq", "hqmsx", "0", "1", "-",
-    "H", "Q", "M", "S", "HQMS", "Hq", "hqmS", "hQ",
-    " ", "  ", " h", "h ", "h q", "h m s", "\t", "\n", "h\n", "\nh", "hqms\n", "h,q",
-]
-
-
-def asked_deeds(kinship, width, height):
-    across = range(width) if "s" in kinship else [0]
-    down = range(height) if "s" in kinship else [0]
-    return [(turning, a, b) for turning in KINSHIPS[kinship] for a in across for b in down]
+from helper import KINSHIPS, NO_KINSHIPS, SIZES, asked_deeds
 
 
 class Turnings(unittest.TestCase):
